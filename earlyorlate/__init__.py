@@ -1,0 +1,1 @@
+"""Early or late: told times by witnesses who err to one side."""

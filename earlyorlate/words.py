@@ -1,0 +1,31 @@
+"""Integers, numbers, kinds and literals."""
+
+GREATEST_NUMBER = 10 ** 15
+
+
+def is_integer(thing):
+    """Return whether thing, any value, is an integer."""
+    return isinstance(thing, int) and not isinstance(thing, bool)
+
+
+def is_number(thing):
+    """Return whether thing, any value, is an integer that a book may contain as a time or a gap."""
+    return is_integer(thing) and -GREATEST_NUMBER <= thing <= GREATEST_NUMBER
+
+
+def is_kind(thing):
+    """Return whether thing, any value, is "early" or "late"."""
+    return isinstance(thing, str) and thing in ("early", "late")
+
+
+def contrary(kind):
+    """Return the other kind."""
+    if kind == "early":
+        return "late"
+    return "early"
+
+
+def turned_literal(literal):
+    """Return the literal that says the contrary of the same witness."""
+    w, kind = literal
+    return (w, contrary(kind))

@@ -1,0 +1,95 @@
+"""The section "The interface": names, arguments, and the files in which they are defined."""
+
+import ast
+import os
+import unittest
+
+PACKAGE = os.path.join(os.path.dirname(os.path.dirname(os.path.abspath(__file__))), "earlyorlate")
+
+FUNCTIONS = {
+    "words.py": {
+        "is_integer": "thing",
+        "is_number": "thing",
+        "is_kind": "thing",
+        "contrary": "kind",
+        "turned_literal": "literal",
+    },
+    "ways.py": {
+        "is_way": "book, a, b, thing",
+        "ring": "book",
+        "way": "book, a, b",
+    },
+}
+
+CLASSES = {
+    "errors.py": {
+        "CaseError": {"__init__": "self, *values"},
+        "Wrong": {"__init__": "self, place"},
+        "BadItem": {"__init__": "self, place, index"},
+        "TooMany": {"__init__": "self, limit"},
+        "NoFit": {"__init__": "self, reason"},
+        "NoHelp": {"__init__": "self, reason"},
+        "NotPlain": {"__init__": "self, index"},
+        "NoKinds": {"__init__": "self, kinds"},
+        "NoIndex": {"__init__": "self, index"},
+        "Unequal": {"__init__": "self, one, other"},
+        "NoText": {"__init__": "self, line"},
+        "NoCommand": {"__init__": "self, line"},
+        "Nothing": {"__init__": "self"},
+    },
+    "books.py": {
+        "Book": {
+            "__init__": "self, events, witnesses, tellings=(), gaps=(), sure=(), clauses=()",
+            "__eq__": "self, other",
+            "events": "self",
+            "witnesses": "self",
+            "tellings": "self",
+            "gaps": "self",
+            "sure": "self",
+            "clauses": "self",
+            "is_plain": "self",
+            "told_by": "self, w",
+            "with_telling": "self, w, e, x",
+            "with_gap": "self, a, b, g",
+            "with_sure": "self, e, side, x",
+            "with_clause": "self, w, kind, v, other",
+            "with_known": "self, w, kind",
+            "without": "self, part, index",
+            "struck": "self, witnesses",
+            "moved": "self, by",
+            "turned": "self",
+            "renamed": "self, events, witnesses",
+            "both": "self, other",
+        },
+    },
+}
+
+
+def parsed(name):
+    with open(os.path.join(PACKAGE, name), encoding="utf-8") as source:
+        return ast.parse(source.read())
+
+
+def arguments_of(body):
+    """The arguments of the functions that are defined in a body, by name."""
+    return {row.name: ast.unparse(row.args) for row in body if isinstance(row, ast.FunctionDef)}
+
+
+class InterfaceTest(unittest.TestCase):
+    def test_functions(self):
+        for name, functions in FUNCTIONS.items():
+            found = arguments_of(parsed(name).body)
+            for function, arguments in functions.items():
+                self.assertEqual(found.get(function), arguments, function)
+
+    def test_classes_and_their_own_methods(self):
+        for name, classes in CLASSES.items():
+            bodies = {row.name: row.body for row in parsed(name).body if isinstance(row, ast.ClassDef)}
+            for made, methods in classes.items():
+                found = arguments_of(bodies[made])
+                for method, arguments in methods.items():
+                    self.assertEqual(found.get(method), arguments, (made, method))
+
+
+if __name__ == "__main__":
+    unittest.main()
