@@ -1,6 +1,6 @@
 """What the items of the four parts of a book are."""
 
-from earlyorlate.words import is_integer, is_kind, is_number
+from earlyorlate.words import is_integer, is_kind, is_number, is_tuple
 
 # In the order in which a Book takes them.
 PARTS = ("tellings", "gaps", "sure", "clauses")
@@ -58,6 +58,4 @@ def _can_stand(word, values, place, events, witnesses):
 
 def is_item(part, thing, events, witnesses):
     """Return whether thing, any value, is an item of the part in a book of these sizes."""
-    if not isinstance(thing, tuple) or len(thing) != len(FORMS[part]):
-        return False
-    return first_wrong(part, thing, events, witnesses) is None
+    return is_tuple(thing, len(FORMS[part])) and first_wrong(part, thing, events, witnesses) is None

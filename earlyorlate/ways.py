@@ -16,7 +16,17 @@ def is_way(book, a, b, thing):
     return here == b
 
 
-def best_ways(book, start):
+def sum_of(book, indexes):
+    """Return the sum of a way."""
+    return sum([book.gaps[index][2] for index in indexes])
+
+
+def all_ways(book):
+    """Return a list with the list of the best ways from each event; it tells of a ring, too."""
+    return [_best_ways(book, start) for start in range(book.events)]
+
+
+def _best_ways(book, start):
     """Return a list with a tuple (total, way) for each event, or None where no way from start leads.
 
     The total is the greatest sum of the ways of at most as many gaps as there are events.
@@ -39,20 +49,31 @@ def _with_one_gap_more(gaps, best):
     return longer
 
 
-def ring(book):
-    """Return a way from an event to itself whose sum is above 0, or None."""
-    # If there is one, there is one that goes through no event twice, and so has few enough gaps.
-    for event in range(book.events):
-        total, indexes = best_ways(book, event)[event]
+def ring_in(ways):
+    """Return what ring returns, by what all_ways returned."""
+    # If there is a ring, there is one that goes through no event twice, and so has few enough gaps.
+    for event, best in enumerate(ways):
+        total, indexes = best[event]
         if total > 0:
             return indexes
     return None
 
 
-def way(book, a, b):
-    """Return a tuple (total, way) with the greatest sum of the ways from a to b, or None."""
-    around = ring(book)
+def ring(book):
+    """Return a way from an event to itself whose sum is above 0, or None."""
+    return ring_in(all_ways(book))
+
+
+def sure_ways(book):
+    """Return what all_ways returns, or raise NoFit if there is a ring."""
+    ways = all_ways(book)
+    around = ring_in(ways)
     if around is not None:
         raise NoFit(("gaps", around))
-    # Going round adds nothing now, so ways through no event twice have the greatest sums.
-    return best_ways(book, a)[b]
+    return ways
+
+
+def way(book, a, b):
+    """Return a tuple (total, way) with the greatest sum of the ways from a to b, or None."""
+    # Going round adds nothing where sure_ways returns, so ways through no event twice are best.
+    return sure_ways(book)[a][b]

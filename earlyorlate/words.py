@@ -1,4 +1,4 @@
-"""Integers, numbers, kinds and literals."""
+"""Integers, numbers, kinds and literals, and what tuples look like."""
 
 GREATEST_NUMBER = 10 ** 15
 
@@ -29,3 +29,13 @@ def turned_literal(literal):
     """Return the literal that says the contrary of the same witness."""
     w, kind = literal
     return (w, contrary(kind))
+
+
+def is_tuple(thing, many):
+    """Return whether thing, any value, is a tuple of so many values."""
+    return isinstance(thing, tuple) and len(thing) == many
+
+
+def is_headed(thing, word):
+    """Return whether thing, any value, is a tuple of this word and one value more."""
+    return is_tuple(thing, 2) and isinstance(thing[0], str) and thing[0] == word

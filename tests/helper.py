@@ -3,6 +3,7 @@
 from random import Random
 
 from earlyorlate.books import Book
+from earlyorlate.errors import NoFit
 
 FAR = 10 ** 15
 
@@ -66,13 +67,27 @@ def some_books(seed, many, most_events=5, most_gaps=9, least=-6, most=3):
     return books
 
 
-def sum_of(book, indexes):
-    """The sum of a way."""
-    return sum(book.gaps[index][2] for index in indexes)
+def check_no_fit_by_gaps(case, book, call, *arguments):
+    """Check that call(book, ..) raises NoFit(("gaps", way)) with a way around, of a sum above 0."""
+    with case.assertRaises(NoFit) as caught:
+        call(book, *arguments)
+    case.assertIs(caught.exception.__class__, NoFit)
+    case.assertEqual(list(vars(caught.exception)), ["reason"])
+    case.assertIsInstance(caught.exception.reason, tuple)
+    word, around = caught.exception.reason
+    case.assertEqual(word, "gaps")
+    case.assertIsInstance(around, tuple)
+    start = book.gaps[around[0]][0]
+    case.assertEqual([start] + [book.gaps[index][1] for index in around],
+                     [book.gaps[index][0] for index in around] + [start])
+    case.assertGreater(sum(book.gaps[index][2] for index in around), 0)
 
 
-def is_walk(book, a, b, indexes):
-    """Whether the indexes lead from a to b, told apart from the program's own is_way."""
-    stops = [a] + [book.gaps[index][1] for index in indexes]
-    starts = [book.gaps[index][0] for index in indexes] + [b]
-    return stops == starts
+def ring_books():
+    """Books with a ring; in the last ones it is not near the events that are told of."""
+    tellings = [(0, 0, 5), (1, 1, 3), (0, 1, 9)]
+    sure = [(0, "least", 7), (0, "most", 6), (1, "most", 9)]
+    clauses = [(0, "early", 1, "late"), (0, "early", 0, "early")]
+    rings = ([(0, 1, 3), (1, 0, -2)], [(0, 1, 1), (1, 0, 0)], [(2, 3, FAR), (3, 2, 1 - FAR)],
+             [(1, 2, -4), (2, 3, 5), (3, 2, -4)])
+    return [Book(4, 2, tellings, gaps, sure, clauses) for gaps in rings]

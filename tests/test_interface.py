@@ -19,6 +19,30 @@ FUNCTIONS = {
         "ring": "book",
         "way": "book, a, b",
     },
+    "links.py": {
+        "event_of": "book, source",
+        "number_of": "book, source",
+        "is_link": "book, thing",
+        "link": "book, start, end",
+        "bounds_link": "book",
+    },
+    "steps.py": {
+        "is_step": "book, thing",
+        "step": "book, one, other",
+        "implied": "book, one",
+        "closure": "book, one",
+        "steps_to": "book, one, other",
+    },
+    "reasons.py": {
+        "is_reason": "book, thing",
+        "reason": "book",
+    },
+    "fits.py": {
+        "explained": "book",
+        "has_fit": "book",
+        "fits": "book, kinds",
+        "is_explanation": "book, thing",
+    },
 }
 
 CLASSES = {

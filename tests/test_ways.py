@@ -5,18 +5,8 @@ import unittest
 from earlyorlate.books import Book
 from earlyorlate.errors import NoFit
 from earlyorlate.ways import is_way, ring, way
-from tests.helper import FAR, NEITHER, NO_INTEGERS, is_walk, some_books, sum_of
-
-
-def all_ways(book, start, end, most_gaps):
-    """All ways of at most so many gaps."""
-    found = []
-    open_ways = [((), start)]
-    for _ in range(most_gaps + 1):
-        found += [indexes for indexes, here in open_ways if here == end]
-        open_ways = [(indexes + (at,), gap[1]) for indexes, here in open_ways
-                     for at, gap in enumerate(book.gaps) if gap[0] == here]
-    return found
+from tests.helper import FAR, NEITHER, NO_INTEGERS, check_no_fit_by_gaps, ring_books, some_books
+from tests.oracle import is_walk, total_of, walks
 
 
 def best_total(book, start, end, most_gaps):
@@ -105,10 +95,10 @@ class IsWayTest(unittest.TestCase):
         for book in some_books("is way", 30, 3, 4):
             for a in range(book.events):
                 for b in range(book.events):
-                    right = all_ways(book, a, b, 3)
+                    right = walks(book, a, b, 3)
                     for event in range(book.events):
                         for other in range(book.events):
-                            for indexes in all_ways(book, event, other, 3):
+                            for indexes in walks(book, event, other, 3):
                                 self.assertIs(is_way(book, a, b, indexes), indexes in right)
 
 
@@ -121,7 +111,7 @@ class RingTest(unittest.TestCase):
         self.assertIsInstance(around, tuple)
         start = book.gaps[around[0]][0]
         self.assertTrue(is_walk(book, start, start, around))
-        self.assertGreater(sum_of(book, around), 0)
+        self.assertGreater(total_of(book, around), 0)
         self.assertIs(is_way(book, start, start, around), True)
 
     def test_sums_above_at_and_below_zero(self):
@@ -181,7 +171,7 @@ class WayTest(unittest.TestCase):
         self.assertEqual(found[0], total)
         self.assertIsInstance(found[1], tuple)
         self.assertTrue(is_walk(book, a, b, found[1]))
-        self.assertEqual(sum_of(book, found[1]), total)
+        self.assertEqual(total_of(book, found[1]), total)
         self.assertIs(is_way(book, a, b, found[1]), True)
 
     def test_from_an_event_to_itself(self):
@@ -235,28 +225,17 @@ class WayTest(unittest.TestCase):
 
     def test_no_fit_whatever_the_two_events(self):
         gaps = [(0, 1, 3), (1, 0, -2), (2, 3, -1)]
-        for book in (Book(5, 1, [], gaps), Book(5, 1, [], gaps[::-1])):
-            for a in range(5):
-                for b in range(5):
-                    self.check_no_fit(book, a, b)
-
-    def check_no_fit(self, book, a, b):
-        with self.assertRaises(NoFit) as caught:
-            way(book, a, b)
-        word, around = caught.exception.reason
-        self.assertIsInstance(caught.exception.reason, tuple)
-        self.assertEqual(word, "gaps")
-        start = book.gaps[around[0]][0]
-        self.assertIs(is_way(book, start, start, around), True)
-        self.assertTrue(is_walk(book, start, start, around))
-        self.assertGreater(sum_of(book, around), 0)
+        for book in [Book(5, 1, [], gaps), Book(5, 1, [], gaps[::-1])] + ring_books():
+            for a in range(book.events):
+                for b in range(book.events):
+                    check_no_fit_by_gaps(self, book, way, a, b)
 
     def test_books_as_they_come(self):
         for book in some_books("way", 400):
             for a in range(book.events):
                 for b in range(book.events):
                     if ring(book) is not None:
-                        self.check_no_fit(book, a, b)
+                        check_no_fit_by_gaps(self, book, way, a, b)
                     else:
                         self.check_way(book, a, b, best_total(book, a, b, 3 * book.events))
 
