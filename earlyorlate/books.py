@@ -1,7 +1,7 @@
 """Books: what witnesses told, and what is sure."""
 
 from earlyorlate.errors import BadItem, NoIndex, TooMany, Unequal, Wrong
-from earlyorlate.items import PARTS, first_wrong, is_below, is_item, turned_side
+from earlyorlate.items import PARTS, first_wrong, is_below, is_item, is_plain_clause, turned_side
 from earlyorlate.words import contrary
 
 MOST_EVENTS = 8
@@ -85,7 +85,7 @@ class Book:
 
     def is_plain(self):
         """Return whether the two literals of each clause have one witness or unlike kinds."""
-        return all([w == v or kind != other for w, kind, v, other in self._clauses])
+        return all([is_plain_clause(clause) for clause in self._clauses])
 
     def told_by(self, w):
         """Return the ascending list of the indexes of the tellings of a witness."""

@@ -18,6 +18,13 @@ def is_below(thing, many):
     return is_integer(thing) and 0 <= thing < many
 
 
+def are_ascending(things, many):
+    """Return whether these, any values in a list or a tuple, are some of the integers below many, each greater."""
+    if not all([is_below(thing, many) for thing in things]):
+        return False
+    return all([one < other for one, other in zip(things, things[1:])])
+
+
 def is_side(thing):
     """Return whether thing, any value, is "least" or "most"."""
     return isinstance(thing, str) and thing in ("least", "most")
@@ -59,3 +66,9 @@ def _can_stand(word, values, place, events, witnesses):
 def is_item(part, thing, events, witnesses):
     """Return whether thing, any value, is an item of the part in a book of these sizes."""
     return is_tuple(thing, len(FORMS[part])) and first_wrong(part, thing, events, witnesses) is None
+
+
+def is_plain_clause(clause):
+    """Return whether the two literals of a clause have one witness or unlike kinds."""
+    w, kind, v, other = clause
+    return w == v or kind != other

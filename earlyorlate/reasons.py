@@ -1,7 +1,8 @@
 """Reasons: why a book has no explanation."""
 
+from earlyorlate.errors import NoFit, NoHelp
 from earlyorlate.links import bounds_link_in, is_link, links_in
-from earlyorlate.steps import is_step, paths_in, steps_in
+from earlyorlate.steps import is_step, paths_in, steps_in, witnesses_in
 from earlyorlate.ways import all_ways, is_way, ring_in, sum_of
 from earlyorlate.words import is_headed
 
@@ -35,23 +36,56 @@ def _has_contraries(literals):
     return any([(w, "early") in literals and (w, "late") in literals for w, _ in literals])
 
 
-def reason(book):
-    """Return a reason, or None if the book has an explanation."""
+def bare_and_steps(book):
+    """Return a tuple (reason, steps): a reason that names nobody, or None and what steps_in returns."""
     ways = all_ways(book)
     around = ring_in(ways)
     if around is not None:
-        return ("gaps", around)
+        return (("gaps", around), {})
     links = links_in(book, ways)
     found = bounds_link_in(links)
     if found is not None:
-        return ("bounds", found)
-    return _kinds_reason(book, steps_in(book, links))
+        return (("bounds", found), {})
+    return (None, steps_in(book, links))
 
 
-def _kinds_reason(book, steps):
-    for w in range(book.witnesses):
+def circle_in(steps):
+    """Return a reason ("kinds", ..) of some of these steps, or None if there is none."""
+    for w in witnesses_in(steps):
         there = paths_in(steps, (w, "early")).get((w, "late"))
-        back = paths_in(steps, (w, "late")).get((w, "early"))
-        if there is not None and back is not None:
-            return ("kinds", tuple(there + back))
+        if there is not None:
+            back = paths_in(steps, (w, "late")).get((w, "early"))
+            if back is not None:
+                return ("kinds", tuple(there + back))
     return None
+
+
+def reason(book):
+    """Return a reason, or None if the book has an explanation."""
+    found, steps = bare_and_steps(book)
+    if found is not None:
+        return found
+    return circle_in(steps)
+
+
+def fit_steps(book):
+    """Return what steps_in returns, or raise NoFit if the book has no explanation."""
+    found, steps = bare_and_steps(book)
+    if found is None:
+        found = circle_in(steps)
+    if found is not None:
+        raise NoFit(found)
+    return steps
+
+
+def check_fit(book):
+    """Raise NoFit if the book has no explanation."""
+    fit_steps(book)
+
+
+def helped_steps(book):
+    """Return what steps_in returns, or raise NoHelp if there is a reason that names nobody."""
+    found, steps = bare_and_steps(book)
+    if found is not None:
+        raise NoHelp(found)
+    return steps

@@ -3,7 +3,7 @@
 from earlyorlate.items import is_below
 from earlyorlate.links import is_link, links_in, witness_of
 from earlyorlate.ways import sure_ways
-from earlyorlate.words import contrary, is_headed, is_kind, is_tuple
+from earlyorlate.words import contrary, is_headed, is_kind, is_tuple, turned_literal
 
 
 def literals(book):
@@ -83,6 +83,26 @@ def paths_in(steps, one):
                     reached.append(other)
         last = reached
     return paths
+
+
+def witnesses_in(steps):
+    """Return the ascending list of the witnesses from whose literals these steps lead."""
+    return sorted(set([w for w, _ in steps]))
+
+
+def steps_among(steps, witnesses):
+    """Return those of these steps whose literals are of these witnesses: what is left when all others are struck."""
+    kept = {}
+    for one, led in steps.items():
+        if one[0] in witnesses:
+            kept[one] = {other: taken for other, taken in led.items() if other[0] in witnesses}
+    return kept
+
+
+def sure_in(steps):
+    """Return the ascending list of the literals that are sure, by the steps of a book that has an explanation."""
+    # A literal that cannot be leads to its contrary, as each step has one between the contraries turned about.
+    return [one for one in steps if one in paths_in(steps, turned_literal(one))]
 
 
 def step(book, one, other):

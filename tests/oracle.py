@@ -1,6 +1,6 @@
 """What the document's definitions say, word by word, told apart from the program: for small books, and slow."""
 
-from itertools import product
+from itertools import combinations, product
 from random import Random
 
 from earlyorlate.books import Book
@@ -143,6 +143,108 @@ def all_kinds(book):
     return list(product(KINDS, repeat=book.witnesses))
 
 
+def raised(book, times):
+    """The least times from these on (None for none) with which the gaps hold, or None if there is a ring."""
+    times = list(times)
+    for _ in range(book.events + 1):
+        ahead = list(times)
+        for a, b, g in book.gaps:
+            if times[a] is not None and (times[b] is None or times[b] < times[a] + g):
+                times[b] = times[a] + g
+        if times == ahead:
+            return times
+    return None
+
+
+def least_of(book, kinds):
+    """The least times of the events, None standing where there is none; None in their place if there is a ring."""
+    times = [None] * book.events
+    floors_held = [(e, x) for w, e, x in book.tellings if kinds[w] == "early"]
+    for e, x in floors_held + [(e, x) for e, side, x in book.sure if side == "least"]:
+        times[e] = x if times[e] is None else max(times[e], x)
+    return raised(book, times)
+
+
+def ends_of(book, kinds):
+    """The least and the greatest times of the events with these kinds, or None if they do not fit: for greater books."""
+    if not all(kinds[w] == kind or kinds[v] == other for w, kind, v, other in book.clauses):
+        return None
+    if raised(book, [0] * book.events) is None:
+        return None
+    lows = least_of(book, kinds)
+    highs = [None if x is None else -x for x in least_of(book.turned(), tuple(CONTRARY[kind] for kind in kinds))]
+    if any(low is not None and high is not None and low > high for low, high in zip(lows, highs)):
+        return None
+    return tuple(lows), tuple(highs)
+
+
+def rows_of(book):
+    """The ascending list of the kinds that fit: for greater books."""
+    return [kinds for kinds in all_kinds(book) if ends_of(book, kinds) is not None]
+
+
+def judge_of_steps(book, most_gaps):
+    """A function that tells of any value whether it is a step whose way has at most so many gaps."""
+    right = {repr(some) for some in all_steps(book, most_gaps)}
+    return lambda thing: repr(thing) in right
+
+
+def judge_of_reasons(book, most_gaps):
+    """A function that tells of any value whether it is a reason whose ways have at most so many gaps."""
+    bare = {repr(("gaps", around)) for e in range(book.events) for around in walks(book, e, e, most_gaps)
+            if total_of(book, around) > 0}
+    bare |= {repr(("bounds", some)) for some in all_links(book, most_gaps) if [some[0][0], some[2][0]] == ["sure", "sure"]}
+    is_right_step = judge_of_steps(book, most_gaps)
+
+    def is_circle(thing):
+        return (thing.__class__ is tuple and len(thing) == 2 and thing[0].__class__ is str and thing[0] == "kinds"
+                and thing[1].__class__ is tuple and all(is_right_step(some) for some in thing[1]) and goes_round(thing[1]))
+
+    return lambda thing: repr(thing) in bare or is_circle(thing)
+
+
+def sets_of(book):
+    """All sets of witnesses, those of fewer first, those of equally many ascending."""
+    found = [()]
+    for many in range(1, book.witnesses + 1):
+        found += combinations(range(book.witnesses), many)
+    return found
+
+
+def least_sets(sets):
+    """Those of these sets that do not hold another one."""
+    return [some for some in sets if not any(set(other) < set(some) for other in sets)]
+
+
+def plain(book):
+    """A Book with plain clauses in the place of those that are not."""
+    clauses = [(w, kind, v, other if w == v else CONTRARY[kind]) for w, kind, v, other in book.clauses]
+    return Book(book.events, book.witnesses, book.tellings, book.gaps, book.sure, clauses)
+
+
+def planted_books(seed, many, slack=30, tellings=20, clauses=20, plainly=False):
+    """Great books with an explanation: all items hold, by up to so much, with kinds and times that nobody tells."""
+    chance = Random(seed)
+    books = []
+    for _ in range(many):
+        kinds = [chance.choice(KINDS) for _ in range(8)]
+        times = [chance.randint(-90, 90) for _ in range(8)]
+        told, gaps, sure, either = [], [], [], []
+        for _ in range(20):
+            w, e, more = chance.randrange(8), chance.randrange(8), chance.randint(0, slack)
+            told.append((w, e, times[e] + (more if kinds[w] == "late" else -more)))
+            a, b = chance.sample(range(8), 2)
+            gaps.append((a, b, times[b] - times[a] - chance.randint(0, slack)))
+            e, side = chance.randrange(8), chance.choice(("least", "most"))
+            sure.append((e, side, times[e] + chance.randint(0, slack) * (1 if side == "most" else -1)))
+            w, v, other = chance.randrange(8), chance.randrange(8), chance.choice(KINDS)
+            pair = [(w, kinds[w]), (v, CONTRARY[kinds[w]] if plainly else other)]
+            chance.shuffle(pair)
+            either.append(pair[0] + pair[1])
+        books.append(Book(8, 8, told[:tellings], gaps, sure, either[:clauses]))
+    return books
+
+
 def kinds_that_fit(book, reach):
     """The kinds of all explanations with times from -reach to reach."""
     times = list(product(range(-reach, reach + 1), repeat=book.events))
@@ -175,14 +277,16 @@ def mixed_books(seed, many, events=(0, 3), witnesses=(0, 3), items=(0, 4), numbe
 
 
 def altered(thing):
-    """What a value becomes if some part of it is exchanged, left out, added or turned about, or put as a list."""
+    """What a value becomes if some part of it is exchanged, left out, added or turned about, or put as a list or tuple."""
     found = []
-    if isinstance(thing, tuple):
-        found += [list(thing), thing[::-1], thing + thing, (thing,), thing + (0,), thing + ((),), (0,) + thing]
+    if isinstance(thing, (tuple, list)):
+        made, otherwise = (tuple, list) if isinstance(thing, tuple) else (list, tuple)
+        found += [otherwise(thing), thing[::-1], thing + thing, made([thing]), thing + made([0]), thing + made([()]),
+                  made([0]) + thing]
         for at, part in enumerate(thing):
-            found += [thing[:at] + (other,) + thing[at + 1:] for other in altered(part)]
-            found += [thing[:at] + thing[at + 1:], thing[:at] + (part,) + thing[at:]]
-        found += [thing[:at] + (thing[at + 1], thing[at]) + thing[at + 2:] for at in range(len(thing) - 1)]
+            found += [thing[:at] + made([other]) + thing[at + 1:] for other in altered(part)]
+            found += [thing[:at] + thing[at + 1:], thing[:at] + made([part]) + thing[at:]]
+        found += [thing[:at] + made([thing[at + 1], thing[at]]) + thing[at + 2:] for at in range(len(thing) - 1)]
     elif isinstance(thing, int):
         found += [thing + 1, thing - 1, -1 - thing, str(thing), None, (thing,), 10 ** 30]
         found += [bool(thing)] if thing in (0, 1) else []

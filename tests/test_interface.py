@@ -43,6 +43,35 @@ FUNCTIONS = {
         "fits": "book, kinds",
         "is_explanation": "book, thing",
     },
+    "lattice.py": {
+        "median": "one, two, three",
+        "joined": "one, other",
+        "met": "one, other",
+        "fewest_early": "book",
+        "most_early": "book",
+    },
+    "news.py": {
+        "word_of": "book, w, e, x",
+        "late_from": "book, w, e",
+        "early_to": "book, w, e",
+        "news_of": "book, w, e",
+        "settles": "book, w, e, x",
+    },
+    "struck.py": {
+        "chain": "book",
+        "is_chain": "book, thing",
+        "struck_for": "book",
+        "is_struck": "book, thing",
+    },
+    "aside.py": {
+        "witnesses_of": "book, reason",
+        "aside_for": "book",
+        "is_aside": "book, thing",
+        "clashes": "book",
+        "repairs": "book",
+        "is_clash": "book, thing",
+        "is_repair": "book, thing",
+    },
 }
 
 CLASSES = {

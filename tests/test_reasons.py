@@ -10,8 +10,8 @@ from earlyorlate.reasons import is_reason, reason
 from earlyorlate.steps import step, steps_to
 from earlyorlate.ways import ring, way
 from tests.helper import FAR, NEITHER, NO_INTEGERS, SameAsAll, ring_books
-from tests.oracle import (all_links, all_steps, altered, goes_round, is_true_reason, kinds_that_fit, mixed_books,
-                          total_of, walks)
+from tests.oracle import (all_links, all_steps, altered, goes_round, is_true_reason, judge_of_reasons, kinds_that_fit,
+                          mixed_books, walks)
 
 E, L = "early", "late"
 
@@ -213,7 +213,7 @@ class IsReasonTest(unittest.TestCase):
         for book in self.books_with_reasons():
             found = reason(book)
             self.check_things([found], True, book)
-            right = self.right_reasons(book, found[0])
+            right = judge_of_reasons(book, 9 if found[0] == "gaps" else 4)
             for thing in altered(found):
                 self.check_things([thing], right(thing), book)
 
@@ -225,21 +225,6 @@ class IsReasonTest(unittest.TestCase):
                           [(1, L, 0, E)])
         clauses_book = Book(0, 2, [], [], [], [(0, E, 1, E), (0, L, 1, E), (0, E, 1, L), (0, L, 1, L)])
         return [ring_book, bounds_book, kinds_book, clauses_book]
-
-    def right_reasons(self, book, word):
-        """A function that tells which altered things are reasons with this word; they have no other one."""
-        if word == "gaps":
-            right = {repr(("gaps", around)) for e in range(book.events) for around in walks(book, e, e, 9)
-                     if total_of(book, around) > 0}
-            return lambda thing: repr(thing) in right
-        if word == "bounds":
-            right = {repr(("bounds", some)) for some in all_links(book, 4)
-                     if [some[0][0], some[2][0]] == ["sure", "sure"]}
-            return lambda thing: repr(thing) in right
-        right = {repr(some) for some in all_steps(book, 4)}
-        return lambda thing: (isinstance(thing, tuple) and len(thing) == 2 and thing[0] == "kinds"
-                              and isinstance(thing[1], tuple) and all(repr(some) in right for some in thing[1])
-                              and goes_round(thing[1]))
 
     def test_a_reason_of_another_book(self):
         sure = [(0, "least", 6), (0, "most", 8)]
