@@ -26,3 +26,15 @@ def high_end(ways, ceilings, e):
     """Return the greatest time of an event below these ceilings, or None if it leads to none of them."""
     ends = [x - ways[e][b][0] for b, x in ceilings if ways[e][b] is not None]
     return min(ends, default=None)
+
+
+def lows_with(book, ways, kinds):
+    """Return the list of the least times of the events with kinds that fit, None standing where there is none."""
+    floors = floors_with(book, kinds)
+    return [low_end(ways, floors, e) for e in range(book.events)]
+
+
+def highs_with(book, ways, kinds):
+    """Return the list of the greatest times of the events with kinds that fit, None standing where there is none."""
+    ceilings = ceilings_with(book, kinds)
+    return [high_end(ways, ceilings, e) for e in range(book.events)]

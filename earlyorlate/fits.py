@@ -1,6 +1,6 @@
 """Explanations of books, and the kinds that fit."""
 
-from earlyorlate.ends import ceilings_with, floors_with, high_end, low_end
+from earlyorlate.ends import ceilings_with, floors_with, high_end, low_end, lows_with
 from earlyorlate.links import links_in
 from earlyorlate.reasons import reason
 from earlyorlate.steps import paths_in, steps_in
@@ -39,8 +39,7 @@ def fits(book, kinds):
     ways = all_ways(book)
     if ring_in(ways) is not None or not _clauses_hold(book, kinds):
         return False
-    floors = floors_with(book, kinds)
-    lows = [low_end(ways, floors, e) for e in range(book.events)]
+    lows = lows_with(book, ways, kinds)
     return all([lows[e] is None or lows[e] <= x for e, x in ceilings_with(book, kinds)])
 
 

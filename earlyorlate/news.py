@@ -1,7 +1,9 @@
 """What a further telling would leave of the kinds of a witness."""
 
 from earlyorlate.ends import ceilings_with, floors_with, high_end, low_end
-from earlyorlate.reasons import bare_and_steps, check_fit, circle_in, fit_steps
+from earlyorlate.fits import has_fit
+from earlyorlate.longer import Longer
+from earlyorlate.reasons import check_fit, fit_steps
 from earlyorlate.rows import fitting_rows, sure_rows
 from earlyorlate.steps import sure_in
 from earlyorlate.ways import all_ways
@@ -10,7 +12,7 @@ from earlyorlate.ways import all_ways
 def word_of(book, w, e, x):
     """Return which kinds w has with the telling (w, e, x) more: "both", "early", "late" or "none"."""
     check_fit(book)
-    kinds = [row[w] for row in fitting_rows(book.with_telling(w, e, x))]
+    kinds = [row[w] for row in fitting_rows(Longer(book, tellings=((w, e, x),)))]
     return _word("early" in kinds, "late" in kinds)
 
 
@@ -70,7 +72,7 @@ def _word_between(late, early, low, high):
 def settles(book, w, e, x):
     """Return the ascending list of the literals that the telling (w, e, x) makes sure, or None if it cannot be."""
     known = sure_in(fit_steps(book))
-    found, steps = bare_and_steps(book.with_telling(w, e, x))
-    if found is not None or circle_in(steps) is not None:
+    told = Longer(book, tellings=((w, e, x),))
+    if not has_fit(told):
         return None
-    return [one for one in sure_in(steps) if one not in known]
+    return [one for one in sure_in(fit_steps(told)) if one not in known]

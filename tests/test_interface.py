@@ -43,12 +43,43 @@ FUNCTIONS = {
         "fits": "book, kinds",
         "is_explanation": "book, thing",
     },
+    "times.py": {
+        "least_times": "book, kinds",
+        "greatest_times": "book, kinds",
+        "times_for": "book, kinds",
+    },
+    "sure.py": {
+        "kinds_of": "book, w",
+        "sure_kind": "book, w",
+        "sure_kinds": "book",
+        "why_kind": "book, w, kind",
+        "groups": "book",
+    },
+    "orders.py": {
+        "sure_gap": "book, a, b",
+        "sure_window": "book, e",
+        "sure_order": "book",
+        "why_gap": "book, a, b, g",
+        "why_bound": "book, e, side, x",
+    },
+    "spans.py": {
+        "times_of": "book, e",
+        "gaps_of": "book, a, b",
+        "at_time": "book, e, x",
+        "at_gap": "book, a, b, d",
+        "why_never": "book, e, low, high",
+        "why_no_gap": "book, a, b, low, high",
+    },
     "lattice.py": {
         "median": "one, two, three",
         "joined": "one, other",
         "met": "one, other",
         "fewest_early": "book",
         "most_early": "book",
+    },
+    "counted.py": {
+        "count_fits": "book",
+        "early_counts": "book",
     },
     "news.py": {
         "word_of": "book, w, e, x",
@@ -113,6 +144,17 @@ CLASSES = {
             "turned": "self",
             "renamed": "self, events, witnesses",
             "both": "self, other",
+        },
+    },
+    "counted.py": {
+        "Fits": {
+            "__init__": "self, book",
+            "__len__": "self",
+            "__iter__": "self",
+            "__contains__": "self, x",
+            "__getitem__": "self, at",
+            "source": "self",
+            "number_of": "self, thing",
         },
     },
 }

@@ -134,6 +134,13 @@ class ImportsTest(unittest.TestCase):
         defined = [row for row in found[file + ".py"].body if not isinstance(row, ast.ImportFrom)]
         self.assertLessEqual(words, set(bound_at_top(ast.Module(defined, []))), name)
 
+    def test_no_products_beside_an_object_with_a_length_that_is_iterated_over(self):
+        methods = [{row.name for row in node.body if isinstance(row, ast.FunctionDef)}
+                   for _, node in nodes(ast.ClassDef)]
+        if any({"__len__", "__iter__"} <= own for own in methods):
+            for name, node in nodes(ast.ImportFrom):
+                self.assertFalse({"product", "combinations", "permutations"} & {row.name for row in node.names}, name)
+
     def test_imported_names_are_used(self):
         for name, tree in trees().items():
             used = {node.id for node in ast.walk(tree) if isinstance(node, ast.Name)}
@@ -177,6 +184,12 @@ class CodeTest(unittest.TestCase):
         for name, node in nodes((ast.FunctionDef, ast.ClassDef)):
             for decorator in node.decorator_list:
                 self.assertRegex(ast.unparse(decorator), r"^(property|staticmethod|classmethod|\w+\.setter)$", name)
+
+    def test_iterating_is_one_statement(self):
+        for name, node in nodes(ast.FunctionDef):
+            if node.name == "__iter__":
+                rows = node.body[1:] if is_docstring(node.body[0]) else node.body
+                self.assertRegex("".join(ast.unparse(row) for row in rows), r"^return iter\(self\.\w+\)$", name)
 
     def test_double_underscores(self):
         for name, node in nodes(ast.FunctionDef):

@@ -1,0 +1,113 @@
+"""[4] Where a part of a book is full, or numbers are greater than most: TooMany is raised only where a point says so."""
+
+import unittest
+from itertools import product
+
+from earlyorlate.aside import aside_for, clashes, is_aside, repairs
+from earlyorlate.books import Book
+from earlyorlate.counted import Fits, count_fits, early_counts
+from earlyorlate.lattice import fewest_early, most_early
+from earlyorlate.news import early_to, late_from, news_of, settles, word_of
+from earlyorlate.orders import sure_gap, sure_order, sure_window, why_bound, why_gap
+from earlyorlate.spans import at_gap, at_time, gaps_of, times_of, why_never, why_no_gap
+from earlyorlate.struck import chain, is_struck, struck_for
+from earlyorlate.sure import groups, kinds_of, sure_kind, sure_kinds, why_kind
+from tests.helper import FAR, KINDS, SIDES
+from tests.oracle import holds
+
+E, L = "early", "late"
+
+
+def full(book):
+    """The Book with the last item of each part so often that all are full."""
+    def filled(items):
+        return items + items[-1:] * (24 - len(items))
+    return Book(book.events, book.witnesses, filled(book.tellings), filled(book.gaps), filled(book.sure),
+                filled(book.clauses))
+
+
+class FullTest(unittest.TestCase):
+    book = Book(2, 3, [(0, 0, 5), (0, 0, 8), (1, 1, 3)], [(0, 1, 2)], [(0, "least", 4), (1, "most", 30)],
+                [(0, E, 2, L)])
+
+    def both(self, call, *arguments):
+        """What a call returns for the book, and for the full one."""
+        more = full(self.book)
+        self.assertEqual([len(part) for part in (more.tellings, more.gaps, more.sure, more.clauses)], [24] * 4)
+        return call(self.book, *arguments), call(more, *arguments)
+
+    def check_same(self, call, *arguments):
+        found, other = self.both(call, *arguments)
+        self.assertEqual(found, other)
+
+    def check_both_or_none(self, call, *arguments):
+        """Check that both are a reason, or an explanation, or both are None."""
+        found, other = self.both(call, *arguments)
+        self.assertEqual(found is None, other is None)
+        return other
+
+    def test_what_is_sure(self):
+        for call in (sure_kinds, groups, sure_order, count_fits, early_counts, fewest_early, most_early):
+            self.check_same(call)
+        self.check_same(lambda book: list(Fits(book)))
+        for w in range(3):
+            self.check_same(kinds_of, w)
+            self.check_same(sure_kind, w)
+            for kind in KINDS:
+                self.check_both_or_none(why_kind, w, kind)
+        for a, b in product(range(2), repeat=2):
+            self.check_same(sure_gap, a, b)
+            self.check_same(gaps_of, a, b)
+
+    def test_times_and_gaps(self):
+        for e, x in product(range(2), (3, 5, 6, 8, 30, 31)):
+            self.check_same(sure_window, e)
+            self.check_same(times_of, e)
+            found = self.check_both_or_none(at_time, e, x)
+            self.assertTrue(found is None or holds(self.book, *found) and found[1][e] == x)
+            self.check_both_or_none(why_never, e, x, x)
+            for side in SIDES:
+                self.check_both_or_none(why_bound, e, side, x)
+        for (a, b), d in product(((0, 1), (1, 0)), (-30, -26, -2, 2, 26, 27)):
+            found = self.check_both_or_none(at_gap, a, b, d)
+            self.assertTrue(found is None or holds(self.book, *found) and found[1][b] - found[1][a] == d)
+            self.check_both_or_none(why_gap, a, b, d)
+            self.check_both_or_none(why_no_gap, a, b, d, d)
+
+    def test_news(self):
+        for w, e in product(range(3), range(2)):
+            for call in (late_from, early_to, news_of):
+                self.check_same(call, w, e)
+            for x in (-9, 4, 6, 7, 30, 99):
+                self.check_same(word_of, w, e, x)
+                self.check_same(settles, w, e, x)
+
+    def test_striking(self):
+        for book in (self.book, self.book.with_known(0, L).with_known(0, E),
+                     self.book.with_known(1, L).with_telling(0, 0, 30).with_telling(0, 0, 3).with_sure(0, "least", 4)):
+            more = full(book)
+            self.assertEqual([clashes(more), repairs(more)], [clashes(book), repairs(book)])
+            self.assertEqual(len(aside_for(more)[0]), len(repairs(book)[0]))
+            self.assertEqual(len(struck_for(more)[0]), len(repairs(book)[0]))
+            self.assertEqual([is_aside(more, aside_for(more)), is_struck(more, struck_for(more))], [True, True])
+            self.assertEqual(chain(more) is None, chain(book) is None)
+
+    def test_integers_that_are_no_numbers(self):
+        for x in (FAR, FAR + 1, 10 ** 30):
+            for sign in (-1, 1):
+                self.check_same(word_of, 0, 1, sign * x)
+                self.check_same(settles, 0, 1, sign * x)
+                self.assertIsNone(at_time(self.book, 1, sign * x))
+                self.assertIsNone(at_gap(self.book, 0, 1, sign * x))
+                self.assertIsNotNone(why_never(self.book, 1, sign * x, sign * x))
+                self.assertIsNotNone(why_no_gap(self.book, 0, 1, sign * x, sign * x))
+            self.assertIsNotNone(why_gap(self.book, 0, 1, -x))
+            self.assertIsNone(why_gap(self.book, 0, 1, x))
+            self.assertIsNotNone(why_bound(self.book, 0, "least", -x))
+            self.assertIsNone(why_bound(self.book, 0, "least", x))
+            self.assertIsNotNone(why_bound(self.book, 1, "most", x))
+            self.assertIsNone(why_bound(self.book, 1, "most", -x))
+
+
+if __name__ == "__main__":
+    unittest.main()
