@@ -27,6 +27,14 @@ def _check_items(place, part, items, events, witnesses):
             raise BadItem(place, index)
 
 
+def check_same_sizes(one, other):
+    """Raise Unequal if two Books have not as many events and witnesses."""
+    sizes = (one.events, one.witnesses)
+    other_sizes = (other.events, other.witnesses)
+    if sizes != other_sizes:
+        raise Unequal(sizes, other_sizes)
+
+
 class Book:
     """A number of events, a number of witnesses, and four parts. It never changes."""
 
@@ -93,24 +101,38 @@ class Book:
 
     def with_telling(self, w, e, x):
         """Return the Book with this telling as the last one."""
-        return self._with_item("tellings", (w, e, x))
+        return self.with_item("tellings", (w, e, x))
 
     def with_gap(self, a, b, g):
         """Return the Book with this gap as the last one."""
-        return self._with_item("gaps", (a, b, g))
+        return self.with_item("gaps", (a, b, g))
 
     def with_sure(self, e, side, x):
         """Return the Book with this bound as the last one."""
-        return self._with_item("sure", (e, side, x))
+        return self.with_item("sure", (e, side, x))
 
     def with_clause(self, w, kind, v, other):
         """Return the Book with this clause as the last one."""
-        return self._with_item("clauses", (w, kind, v, other))
+        return self.with_item("clauses", (w, kind, v, other))
 
     def with_known(self, w, kind):
         """Return the Book with the clause, as the last one, that w is of this kind."""
         # A wrong witness or kind is found at its first place, which is that of the argument here.
-        return self._with_item("clauses", (w, kind, w, kind))
+        return self.with_item("clauses", (w, kind, w, kind))
+
+    def with_item(self, part, item):
+        """Return the Book with this tuple, of as many values as an item has, as the last item of this part."""
+        wrong = first_wrong(part, item, self._events, self._witnesses)
+        if wrong is not None:
+            raise Wrong(wrong)
+        parts = self._parts_by_name()
+        parts[part] = parts[part] + (item,)
+        # A part that was full is too long now, which is what the new Book finds first.
+        return self._with_parts(parts)
+
+    def items_in(self, part):
+        """Return the part of this name."""
+        return self._parts_by_name()[part]
 
     def without(self, part, index):
         """Return the Book without the item with this index in the part of this name."""
@@ -155,10 +177,7 @@ class Book:
 
     def both(self, other):
         """Return the Book with the items of this one and, behind them, those of the other one."""
-        sizes = (self._events, self._witnesses)
-        other_sizes = (other.events, other.witnesses)
-        if sizes != other_sizes:
-            raise Unequal(sizes, other_sizes)
+        check_same_sizes(self, other)
         return Book(
             self._events,
             self._witnesses,
@@ -167,15 +186,6 @@ class Book:
             self._sure + other.sure,
             self._clauses + other.clauses,
         )
-
-    def _with_item(self, part, item):
-        wrong = first_wrong(part, item, self._events, self._witnesses)
-        if wrong is not None:
-            raise Wrong(wrong)
-        parts = self._parts_by_name()
-        parts[part] = parts[part] + (item,)
-        # A part that was full is too long now, which is what the new Book finds first.
-        return self._with_parts(parts)
 
     def _parts_by_name(self):
         return {

@@ -3,7 +3,7 @@
 from earlyorlate.errors import NoIndex, NoKinds
 from earlyorlate.items import is_below
 from earlyorlate.rows import fitting_rows
-from earlyorlate.words import is_kind, is_tuple
+from earlyorlate.words import are_kinds
 
 
 def count_fits(book):
@@ -37,7 +37,7 @@ class Fits:
         return iter(self._rows)
 
     def __contains__(self, x):
-        return _are_kinds(x, self._source.witnesses) and x in self._numbers
+        return are_kinds(x, self._source.witnesses) and x in self._numbers
 
     def __getitem__(self, at):
         if not is_below(at, len(self._rows)):
@@ -49,7 +49,3 @@ class Fits:
         if thing not in self:
             raise NoKinds(thing)
         return self._numbers[thing]
-
-
-def _are_kinds(thing, many):
-    return is_tuple(thing, many) and all([is_kind(some) for some in thing])

@@ -5,7 +5,7 @@ from earlyorlate.links import links_in
 from earlyorlate.reasons import reason
 from earlyorlate.steps import paths_in, steps_in
 from earlyorlate.ways import all_ways, ring_in
-from earlyorlate.words import is_integer, is_kind, is_tuple
+from earlyorlate.words import are_kinds, is_integer, is_tuple
 
 
 def is_explanation(book, thing):
@@ -13,14 +13,15 @@ def is_explanation(book, thing):
     if not is_tuple(thing, 2):
         return False
     kinds, times = thing
-    if not is_tuple(kinds, book.witnesses) or not all([is_kind(kind) for kind in kinds]):
+    if not are_kinds(kinds, book.witnesses):
         return False
     if not is_tuple(times, book.events) or not all([is_integer(time) for time in times]):
         return False
-    return _clauses_hold(book, kinds) and _gaps_hold(book, times) and _ends_hold(book, kinds, times)
+    return clauses_hold(book, kinds) and _gaps_hold(book, times) and _ends_hold(book, kinds, times)
 
 
-def _clauses_hold(book, kinds):
+def clauses_hold(book, kinds):
+    """Return whether all clauses hold with these kinds."""
     return all([kinds[w] == kind or kinds[v] == other for w, kind, v, other in book.clauses])
 
 
@@ -37,7 +38,7 @@ def _ends_hold(book, kinds, times):
 def fits(book, kinds):
     """Return whether these kinds are those of some explanation."""
     ways = all_ways(book)
-    if ring_in(ways) is not None or not _clauses_hold(book, kinds):
+    if ring_in(ways) is not None or not clauses_hold(book, kinds):
         return False
     lows = lows_with(book, ways, kinds)
     return all([lows[e] is None or lows[e] <= x for e, x in ceilings_with(book, kinds)])

@@ -45,9 +45,16 @@ def is_link(book, thing):
     start, indexes, end = thing
     if not _is_source(book, "least", start) or not _is_source(book, "most", end):
         return False
-    if not is_way(book, event_of(book, start), event_of(book, end), indexes):
-        return False
-    return number_of(book, start) + sum_of(book, indexes) > number_of(book, end)
+    return is_way(book, event_of(book, start), event_of(book, end), indexes) and excess_of(book, thing) > 0
+
+
+def excess_of(book, path):
+    """Return by how much the number of a floor plus the sum of a way is greater than the number of a ceiling.
+
+    path is a tuple of these three; it is a link if this is above 0.
+    """
+    start, indexes, end = path
+    return number_of(book, start) + sum_of(book, indexes) - number_of(book, end)
 
 
 def _sources(book, side):
@@ -57,16 +64,24 @@ def _sources(book, side):
     return told + sure
 
 
-def links_in(book, ways):
-    """Return a list with one link of each floor and each ceiling that have one, by the ways of the book."""
+def paths_between(book, ways):
+    """Return a list with a tuple (excess, path) for each floor and each ceiling to which a way leads from it.
+
+    The path goes by the best way; ways are those of the book.
+    """
     ends = _sources(book, "most")
-    links = []
+    found = []
     for start, a, low in _sources(book, "least"):
         for end, b, high in ends:
             best = ways[a][b]
-            if best is not None and low + best[0] > high:
-                links.append((start, best[1], end))
-    return links
+            if best is not None:
+                found.append((low + best[0] - high, (start, best[1], end)))
+    return found
+
+
+def links_in(book, ways):
+    """Return a list with one link of each floor and each ceiling that have one, by the ways of the book."""
+    return [path for excess, path in paths_between(book, ways) if excess > 0]
 
 
 def link(book, start, end):

@@ -1,6 +1,6 @@
 """Which gaps, windows and orders are sure."""
 
-from earlyorlate.longer import Longer
+from earlyorlate.longer import denying_bound, denying_gap
 from earlyorlate.reasons import check_fit, reason
 from earlyorlate.stretches import ends_of_rows, greatest_high, least_gap, least_low, time_stretches
 from earlyorlate.ways import all_ways
@@ -33,12 +33,10 @@ def sure_order(book):
 def why_gap(book, a, b, g):
     """Return a reason of the book with the contrary of the gap (a, b, g) more, or None if this is not sure."""
     check_fit(book)
-    return reason(Longer(book, gaps=((b, a, 1 - g),)))
+    return reason(denying_gap(book, a, b, g))
 
 
 def why_bound(book, e, side, x):
     """Return a reason of the book with the contrary of the bound (e, side, x) more, or None if this is not sure."""
     check_fit(book)
-    if side == "least":
-        return reason(Longer(book, sure=((e, "most", x - 1),)))
-    return reason(Longer(book, sure=((e, "least", x + 1),)))
+    return reason(denying_bound(book, e, side, x))

@@ -36,6 +36,16 @@ def _has_contraries(literals):
     return any([(w, "early") in literals and (w, "late") in literals for w, _ in literals])
 
 
+def links_of(reason):
+    """Return a list of the links of a reason."""
+    word, what = reason
+    if word == "bounds":
+        return [what]
+    if word == "kinds":
+        return [why[1] for _, why, _ in what if why[0] == "link"]
+    return []
+
+
 def bare_and_steps(book):
     """Return a tuple (reason, steps): a reason that names nobody, or None and what steps_in returns."""
     ways = all_ways(book)

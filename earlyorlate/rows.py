@@ -3,12 +3,23 @@
 from earlyorlate.reasons import bare_and_steps, fit_steps
 
 
+def _with_one_more(rows):
+    return [row + (kind,) for row in rows for kind in ("early", "late")]
+
+
+def all_kinds(witnesses):
+    """Return the ascending list of all kinds of so many witnesses."""
+    rows = [()]
+    for _ in range(witnesses):
+        rows = _with_one_more(rows)
+    return rows
+
+
 def _rows_in(steps, witnesses):
     """Return the ascending list of the kinds from none of whose literals a step leads to a contrary one."""
     rows = [()]
     for w in range(witnesses):
-        longer = [row + (kind,) for row in rows for kind in ("early", "late")]
-        rows = [row for row in longer if _can_stand(steps, row, w)]
+        rows = [row for row in _with_one_more(rows) if _can_stand(steps, row, w)]
     return rows
 
 

@@ -48,7 +48,7 @@ def greatest_high(highs):
 def merged(stretches):
     """Return the ascending list of the stretches, as long as possible, which hold just what these hold."""
     found = []
-    for low, high in sorted(stretches, key=_place):
+    for low, high in sorted(stretches, key=place):
         if found and _reaches(found[-1], low):
             found[-1] = (found[-1][0], greatest_high([found[-1][1], high]))
         else:
@@ -56,8 +56,8 @@ def merged(stretches):
     return found
 
 
-def _place(stretch):
-    """Return what stretches are sorted by: those without a lower end come first."""
+def place(stretch):
+    """Return what stretches, or tuples that begin with one, are sorted by: those without a lower end come first."""
     low = stretch[0]
     if low is None:
         return (0, 0)
@@ -67,3 +67,27 @@ def _place(stretch):
 def _reaches(stretch, low):
     """Return whether no integer lies between a stretch and one with this lower end that is sorted behind it."""
     return stretch[1] is None or low is None or low <= stretch[1] + 1
+
+
+def rest_of(stretches):
+    """Return the ascending list of the stretches, as long as possible, of all integers that none of these holds.
+
+    These are such a list themselves.
+    """
+    found = []
+    begin = None
+    for low, high in stretches:
+        if low is not None:
+            found.append((begin, low - 1))
+        if high is None:
+            return found
+        begin = high + 1
+    return found + [(begin, None)]
+
+
+def is_within(stretch, low, high):
+    """Return whether a stretch holds all that the stretch from low to high holds."""
+    least, greatest = stretch
+    if least is not None and (low is None or low < least):
+        return False
+    return greatest is None or high is not None and high <= greatest

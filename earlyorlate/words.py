@@ -25,6 +25,11 @@ def contrary(kind):
     return "early"
 
 
+def are_kinds(thing, many):
+    """Return whether thing, any value, is a tuple of so many kinds."""
+    return is_tuple(thing, many) and all([is_kind(some) for some in thing])
+
+
 def turned_literal(literal):
     """Return the literal that says the contrary of the same witness."""
     w, kind = literal

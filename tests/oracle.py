@@ -183,6 +183,11 @@ def rows_of(book):
     return [kinds for kinds in all_kinds(book) if ends_of(book, kinds) is not None]
 
 
+def some_fit(book):
+    """Whether there is an explanation, by going through all kinds: for greater books."""
+    return any(ends_of(book, kinds) is not None for kinds in all_kinds(book))
+
+
 def judge_of_steps(book, most_gaps):
     """A function that tells of any value whether it is a step whose way has at most so many gaps."""
     right = {repr(some) for some in all_steps(book, most_gaps)}
@@ -290,6 +295,8 @@ def altered(thing):
     elif isinstance(thing, int):
         found += [thing + 1, thing - 1, -1 - thing, str(thing), None, (thing,), 10 ** 30]
         found += [bool(thing)] if thing in (0, 1) else []
+    elif thing is None:
+        found += [0, 1, -1, False, "", "None", (), (None,), 10 ** 30, -10 ** 30]
     else:
         words = ("told", "sure", "clause", "link", "gaps", "bounds", "kinds", "early", "late", "fits")
         found += [word for word in words if word != thing] + [thing.upper(), thing + " ", "", 0, None, (thing,)]

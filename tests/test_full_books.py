@@ -5,15 +5,21 @@ from itertools import product
 
 from earlyorlate.aside import aside_for, clashes, is_aside, repairs
 from earlyorlate.books import Book
+from earlyorlate.clocks import shift_stretch, shifted
+from earlyorlate.compared import alike, are_whys, contraries, implies, parting, whys
 from earlyorlate.counted import Fits, count_fits, early_counts
+from earlyorlate.fits import has_fit
 from earlyorlate.lattice import fewest_early, most_early
 from earlyorlate.news import early_to, late_from, news_of, settles, word_of
 from earlyorlate.orders import sure_gap, sure_order, sure_window, why_bound, why_gap
+from earlyorlate.shifts import holes, is_clock_paper, pieces, shift_stretches
 from earlyorlate.spans import at_gap, at_time, gaps_of, times_of, why_never, why_no_gap
+from earlyorlate.strong import enough_bound, enough_gap, strong_bound, strong_gap
 from earlyorlate.struck import chain, is_struck, struck_for
 from earlyorlate.sure import groups, kinds_of, sure_kind, sure_kinds, why_kind
 from tests.helper import FAR, KINDS, SIDES
-from tests.oracle import holds
+from tests.oracle import all_kinds, holds
+from tests.saying import items_of, made
 
 E, L = "early", "late"
 
@@ -91,6 +97,48 @@ class FullTest(unittest.TestCase):
             self.assertEqual(len(struck_for(more)[0]), len(repairs(book)[0]))
             self.assertEqual([is_aside(more, aside_for(more)), is_struck(more, struck_for(more))], [True, True])
             self.assertEqual(chain(more) is None, chain(book) is None)
+
+    def check_strong(self, strong, enough, *arguments):
+        (found, other), (few, fewer) = self.both(strong, *arguments), self.both(enough, *arguments)
+        self.assertEqual([found and found[0], few and len(few)], [other and other[0], fewer and len(fewer)])
+
+    def test_strength(self):
+        for a, b in ((0, 1), (1, 0)):
+            for g in (-30, -26, 2, 3, FAR, -FAR):
+                self.check_strong(strong_gap, enough_gap, a, b, g)
+        for e, side, x in product(range(2), SIDES, (3, 4, 5, 6, 28, 30, 31, FAR + 1, -FAR - 1)):
+            self.check_strong(strong_bound, enough_bound, e, side, x)
+
+    def test_shifts(self):
+        for others in ([], [0], (1, 2), [0, 1, 2]):
+            self.check_same(shift_stretches, others)
+            for kinds in all_kinds(self.book):
+                self.check_same(shift_stretch, others, kinds)
+            more = full(self.book)
+            self.assertIs(is_clock_paper(more, others, pieces(more, others), holes(more, others)), True)
+            self.assertEqual(len(shifted(more, others, FAR - 8).tellings), 24)
+
+    def test_saying(self):
+        fewer = Book(2, 3, [(0, 0, 5)], [(0, 1, 1)], [(0, "least", 3)], [(0, E, 2, L)])
+        for one, other in product((self.book, full(self.book), fewer, full(fewer)), repeat=2):
+            right = one.gaps[-1] == (0, 1, 2) or other.gaps[-1] == (0, 1, 1)
+            self.assertEqual([implies(one, other), parting(one, other) is None, whys(one, other) is not None], [right] * 3)
+            self.assertIs(alike(one, other), one.gaps[-1] == other.gaps[-1])
+            if right:
+                self.assertIs(are_whys(one, other, whys(one, other)), True)
+
+    def test_contraries(self):
+        more = full(self.book)
+        for sort, item in items_of(self.book):
+            found = contraries(more, sort, item)
+            self.assertTrue(all(isinstance(some, Book) for some in found))
+            self.assertFalse(any(has_fit(some) for some in found))
+            self.assertEqual([len(items_of(some)) for some in found],
+                             [len(items_of(some)) + 96 - len(items_of(self.book)) for some in contraries(self.book, sort, item)])
+            far = made(self.book, [(sort, item[:2] + (FAR,) if sort != "clauses" else item)])
+            for some_sort, some_item in items_of(far):
+                self.assertEqual(len(contraries(self.book, some_sort, some_item)), len(found))
+        self.assertEqual(contraries(self.book, "sure", (0, "most", FAR))[0].sure[-1], (0, "least", FAR + 1))
 
     def test_integers_that_are_no_numbers(self):
         for x in (FAR, FAR + 1, 10 ** 30):

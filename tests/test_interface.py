@@ -103,6 +103,32 @@ FUNCTIONS = {
         "is_clash": "book, thing",
         "is_repair": "book, thing",
     },
+    "strong.py": {
+        "strong_gap": "book, a, b, g",
+        "strong_bound": "book, e, side, x",
+        "enough_gap": "book, a, b, g",
+        "enough_bound": "book, e, side, x",
+    },
+    "clocks.py": {
+        "shifted": "book, others, shift",
+        "shift_stretch": "book, others, kinds",
+    },
+    "shifts.py": {
+        "pieces": "book, others",
+        "holes": "book, others",
+        "shift_stretches": "book, others",
+        "are_pieces": "book, others, thing",
+        "are_holes": "book, others, thing",
+        "is_clock_paper": "book, others, some_pieces, some_holes",
+    },
+    "compared.py": {
+        "implies": "one, other",
+        "parting": "one, other",
+        "alike": "one, other",
+        "contraries": "book, sort, item",
+        "whys": "one, other",
+        "are_whys": "one, other, thing",
+    },
 }
 
 CLASSES = {

@@ -205,9 +205,10 @@ class CodeTest(unittest.TestCase):
         for name, node in nodes(ast.arg):
             self.assertNotIn(node.arg, set(dir(builtins)) | BARRED_NAMES, name)
 
-    def test_local_names_are_not_those_of_the_file(self):
+    def test_local_names_are_not_those_of_classes_and_imports(self):
         for name, tree in trees().items():
-            taken = set(bound_at_top(tree))
+            taken = {row.name for row in tree.body if isinstance(row, ast.ClassDef)}
+            taken |= {alias.name for row in tree.body if isinstance(row, ast.ImportFrom) for alias in row.names}
             for function in [node for node in ast.walk(tree) if isinstance(node, ast.FunctionDef)]:
                 for node in ast.walk(function):
                     if isinstance(node, ast.arg):

@@ -8,16 +8,11 @@ from earlyorlate.orders import sure_gap, sure_order, sure_window, why_bound, why
 from earlyorlate.reasons import is_reason
 from tests.checks import check_no_fit, check_quick, check_unchanged, unfit_books
 from tests.helper import SIDES
-from tests.oracle import all_kinds, ends_of, holds, is_true_reason, mixed_books, planted_books, rows_of
+from tests.oracle import all_kinds, holds, is_true_reason, mixed_books, planted_books, rows_of, some_fit
 
 E, L = "early", "late"
 GREAT = 10 ** 12
 GREATER = 10 ** 13
-
-
-def some_fit(book):
-    """Whether there is an explanation, by going through all kinds."""
-    return any(ends_of(book, kinds) is not None for kinds in all_kinds(book))
 
 
 class OrdersTest(unittest.TestCase):

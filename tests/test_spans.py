@@ -9,16 +9,11 @@ from earlyorlate.orders import sure_window
 from earlyorlate.reasons import is_reason
 from earlyorlate.spans import at_gap, at_time, gaps_of, times_of, why_never, why_no_gap
 from tests.checks import check_no_fit, check_quick, check_unchanged, unfit_books
-from tests.oracle import all_kinds, ends_of, holds, is_true_reason, mixed_books, planted_books, rows_of
+from tests.oracle import all_kinds, holds, is_true_reason, mixed_books, planted_books, rows_of, some_fit
 
 E, L = "early", "late"
 GREAT = 10 ** 12
 GREATER = 10 ** 13
-
-
-def some_fit(book):
-    """Whether there is an explanation, by going through all kinds."""
-    return any(ends_of(book, kinds) is not None for kinds in all_kinds(book))
 
 
 def in_one_of(stretches, x):
