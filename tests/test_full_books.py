@@ -4,13 +4,16 @@ import unittest
 from itertools import product
 
 from earlyorlate.aside import aside_for, clashes, is_aside, repairs
+from earlyorlate.asks import ask_table, depth, is_ask_table, is_plan, plan, questions
 from earlyorlate.books import Book
 from earlyorlate.clocks import shift_stretch, shifted
 from earlyorlate.compared import alike, are_whys, contraries, implies, parting, whys
 from earlyorlate.counted import Fits, count_fits, early_counts
 from earlyorlate.fits import has_fit
 from earlyorlate.lattice import fewest_early, most_early
+from earlyorlate.needless import is_least_book, least_book, needless
 from earlyorlate.news import early_to, late_from, news_of, settles, word_of
+from earlyorlate.notation import show_book
 from earlyorlate.orders import sure_gap, sure_order, sure_window, why_bound, why_gap
 from earlyorlate.shifts import holes, is_clock_paper, pieces, shift_stretches
 from earlyorlate.spans import at_gap, at_time, gaps_of, times_of, why_never, why_no_gap
@@ -19,7 +22,7 @@ from earlyorlate.struck import chain, is_struck, struck_for
 from earlyorlate.sure import groups, kinds_of, sure_kind, sure_kinds, why_kind
 from tests.helper import FAR, KINDS, SIDES
 from tests.oracle import all_kinds, holds
-from tests.saying import items_of, made
+from tests.saying import PARTS, items_of, made
 
 E, L = "early", "late"
 
@@ -139,6 +142,24 @@ class FullTest(unittest.TestCase):
             for some_sort, some_item in items_of(far):
                 self.assertEqual(len(contraries(self.book, some_sort, some_item)), len(found))
         self.assertEqual(contraries(self.book, "sure", (0, "most", FAR))[0].sure[-1], (0, "least", FAR + 1))
+
+    def test_needless_and_asks(self):
+        more = full(self.book)
+        self.assertEqual(needless(self.book), [])
+        # The last item of each part stands there more than once.
+        self.assertEqual(needless(more), [(sort, at) for sort in PARTS
+                                          for at in range(len(getattr(self.book, sort)) - 1, 24)])
+        self.assertEqual(least_book(more), self.book)
+        self.assertEqual([is_least_book(more, self.book), is_least_book(more, more)], [True, False])
+        for call in (questions, ask_table, plan):
+            self.check_same(call)
+        self.assertEqual(show_book(more).split("\n")[:3], show_book(self.book).split("\n")[:3])
+
+    def test_eight_witnesses_who_are_asked(self):
+        book = full(Book(2, 8, [(w, 0, 5 * w) for w in range(8)], [(0, 1, 2)], [(0, "least", 4)], [(0, E, 2, L)]))
+        self.assertEqual(depth(plan(book)), questions(book))
+        self.assertIs(is_plan(book, plan(book)), True)
+        self.assertIs(is_ask_table(book, ask_table(book)), True)
 
     def test_integers_that_are_no_numbers(self):
         for x in (FAR, FAR + 1, 10 ** 30):

@@ -129,6 +129,32 @@ FUNCTIONS = {
         "whys": "one, other",
         "are_whys": "one, other, thing",
     },
+    "needless.py": {
+        "needless": "book",
+        "least_book": "book",
+        "is_least_book": "book, thing",
+    },
+    "asks.py": {
+        "agreeing": "book, stand",
+        "open_witnesses": "book, stand",
+        "best_ask": "book, stand",
+        "plan": "book",
+        "questions": "book",
+        "ask_table": "book",
+        "is_plan": "book, thing",
+        "is_ask_table": "book, thing",
+        "depth": "plan",
+    },
+    "notation.py": {
+        "show_book": "book",
+        "show_kinds": "kinds",
+        "show_times": "times",
+    },
+    "readers.py": {
+        "read_book": "text",
+        "read_kinds": "text",
+        "read_times": "text",
+    },
 }
 
 CLASSES = {
@@ -181,6 +207,21 @@ CLASSES = {
             "__getitem__": "self, at",
             "source": "self",
             "number_of": "self, thing",
+        },
+    },
+    "desk.py": {
+        "Desk": {
+            "__init__": "self, events, witnesses",
+            "book": "self",
+            "tell": "self, w, e, x",
+            "gap": "self, a, b, g",
+            "bound": "self, e, side, x",
+            "clause": "self, w, kind, v, kind2",
+            "drop": "self, sort, index",
+            "undo": "self",
+            "redo": "self",
+            "execute": "self, line",
+            "copied": "self",
         },
     },
 }
